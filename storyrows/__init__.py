@@ -1,0 +1,1 @@
+"""Answers questions about a tree and a row of steps on it."""

@@ -1,0 +1,93 @@
+import unittest
+
+from storyrows.stories import answers
+from tests.helper import FAR, OUTCOME, SHOWN, asked, blame, broke, last, step, tree, who
+
+CALLS = [
+    *tree(2, 0, 2, 1, 2, 4, 0),
+    *step(1, 0, 0, 1, 1, 2, 2, 7, 7),
+    *step(2, 1, 0, 7, 8),
+    *step(3, 4, 4, 9),
+    *step(3, 0, 0, 0, 1, 99, 0),
+    *SHOWN, *OUTCOME, *blame(0), *who(0, 1), *broke(0, 4, 0), *tree(7),
+]
+
+# Each call but tree, told so that it's nothing but the missing tree that is refused.
+OTHERS = [
+    [1, 1, 2, 2, 3], [2], [3], [4, 0], [5, 0, 0], [6, 0, 0, 0], [7, 0, 0, 0],
+    [8, 1, 0], [9, 1], [10, 0, 0, 1], [11, 0], [12],
+]
+
+
+class Watched(list):
+    """A list that tells when it's changed, if only for a while."""
+
+    def refuse(self, *handed):
+        raise RuntimeError("the list handed in is changed")
+
+    __setitem__ = __delitem__ = __iadd__ = __imul__ = refuse
+    append = extend = insert = pop = remove = clear = sort = reverse = refuse
+
+
+class Interface(unittest.TestCase):
+    def test_the_list_handed_in_stays_as_it_was(self):
+        calls = list(CALLS)
+        answers(calls)
+        self.assertEqual(calls, CALLS)
+
+    def test_the_list_handed_in_is_not_changed_for_a_while(self):
+        self.assertEqual(answers(Watched(CALLS)), answers(CALLS))
+
+    def test_twice_gives_the_same_answer(self):
+        first = answers(CALLS)
+        self.assertEqual(answers(CALLS), first)
+        self.assertEqual(answers(CALLS), first)
+
+    def test_what_is_given_back_may_be_changed(self):
+        first = answers(CALLS)
+        kept = list(first)
+        first.clear()
+        self.assertEqual(answers(CALLS), kept)
+
+    def test_nothing_is_kept_from_one_time_to_the_next(self):
+        answers(CALLS)
+        self.assertEqual(answers(OUTCOME), [1, -8])
+
+    def test_answers_are_whole_numbers_in_a_list(self):
+        found = answers(CALLS)
+        self.assertIs(type(found), list)
+        self.assertEqual({type(number) for number in found}, {int})
+
+    def test_without_a_tree_all_others_are_refused(self):
+        for call in OTHERS:
+            with self.subTest(call=call):
+                self.assertEqual(answers(call), [1, -8])
+        self.assertEqual(asked(*OTHERS), [[-8]] * len(OTHERS))
+
+    def test_no_tree_is_told_ahead_of_all_else(self):
+        for call in (step(-1), step(0, 7), blame(FAR), who(0, -FAR), broke(3, 0, 0), [8, 1, 10], [9, 10]):
+            with self.subTest(call=call):
+                self.assertEqual(answers(call), [1, -8])
+
+    def test_a_refused_tree_is_no_tree(self):
+        self.assertEqual(asked(tree(7), SHOWN, tree(0), SHOWN), [[-1], [-8], [0], [0]])
+
+    def test_a_step_without_a_tree_stands_in_no_row(self):
+        self.assertEqual(asked(step(1, 2, 3), tree(0), SHOWN), [[-8], [0], [0]])
+
+    def test_sixty_calls(self):
+        calls = [tree(1, 0, 1, 5)] + [who(0, 0)] * 59
+        self.assertEqual(asked(*calls), [[1]] + [[5, -1, -1, -1, -1]] * 59)
+
+    def test_lists_of_the_greatest_length(self):
+        self.assertEqual(asked(tree(*[0] * 100), tree(0), step(0, *[0] * 30), OUTCOME), [[-1], [0], [-1], [0]])
+
+    def test_far_numbers_in_lists(self):
+        for far in (FAR, -FAR):
+            with self.subTest(far=far):
+                self.assertEqual(last(tree(far)), [-1])
+                self.assertEqual(last(tree(0), step(0, far)), [-1])
+
+
+if __name__ == "__main__":
+    unittest.main()
