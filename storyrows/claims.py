@@ -1,6 +1,8 @@
-"""Claims about a tree, and which step broke one."""
+"""Claims about a tree, which step broke one, and which steps are enough to break it."""
 
-from storyrows.trees import LAST_NAME, tokens_of
+from storyrows.commuting import taken_out
+from storyrows.rows import outcome_of
+from storyrows.trees import is_name, tokens_of
 
 THERE = 0
 HAS_TOKEN = 1
@@ -24,7 +26,7 @@ class Claim:
 
 def claim_of(kind, file, number):
     """The claim that's told; None if it isn't one."""
-    right = THERE <= kind <= AT_MOST and 0 <= file <= LAST_NAME and 0 <= number <= LAST_NUMBER
+    right = THERE <= kind <= AT_MOST and is_name(file) and 0 <= number <= LAST_NUMBER
     return Claim(kind, file, number) if right else None
 
 
@@ -46,3 +48,17 @@ def where_broke(claim, trees):
             failing = middle
     # Steps are counted from 1 here, but their places from 0.
     return (failing - 1, tries)
+
+
+def culprits_of(claim, first, row):
+    """The places, rising, of the steps that stay when all others are taken out."""
+    left = row
+    staying = []
+    # From the last one on, so a step's place in what's left is still its place in the row.
+    for place in range(len(row) - 1, -1, -1):
+        tried = taken_out(left, place)
+        if tried is None or claim.holds(outcome_of(first, tried)):
+            staying.append(place)
+        else:
+            left = tried
+    return list(reversed(staying))

@@ -1,7 +1,8 @@
 """Steps: each kind says whether it fits a tree, and makes another tree of it.
 
 To apply a step, its place in the row is handed over too: the entries that it
-puts or swaps bear it from then on.
+puts or swaps bear it from then on. No step is ever changed: what comes of one
+is another one.
 """
 
 from storyrows.readers import NotTold, read_whole
@@ -38,6 +39,29 @@ class Hunk:
         after[self.file] = entries[:self.place] + entries_put(self.new, number) + entries[end:]
         return after
 
+    def names(self):
+        return [self.file]
+
+    def turned(self):
+        return Hunk(self.file, self.place, self.new, self.old)
+
+    def inside(self, file):
+        return Hunk(file, self.place, self.old, self.new)
+
+    def shifted(self, by):
+        return Hunk(self.file, self.place + by, self.old, self.new)
+
+    def with_swapped(self, swap):
+        old = [swap.token_for(token) for token in self.old]
+        new = [swap.token_for(token) for token in self.new]
+        return Hunk(self.file, self.place, old, new)
+
+    def growth(self):
+        return len(self.new) - len(self.old)
+
+    def is_too_large(self):
+        return max(len(self.old), len(self.new)) > MOST_IN_HUNK or self.place > LAST_PLACE
+
     def as_numbers(self):
         head = [HUNK, self.file, self.place]
         return head + [len(self.old)] + self.old + [len(self.new)] + self.new
@@ -58,11 +82,22 @@ class Swap:
         return after
 
     def swapped(self, entry, number):
-        if entry[0] == self.one:
-            return (self.other, entry[1], number)
-        if entry[0] == self.other:
-            return (self.one, entry[1], number)
-        return entry
+        token = self.token_for(entry[0])
+        return entry if token == entry[0] else (token, entry[1], number)
+
+    def token_for(self, token):
+        if token == self.one:
+            return self.other
+        return self.one if token == self.other else token
+
+    def names(self):
+        return [self.file]
+
+    def turned(self):
+        return self
+
+    def inside(self, file):
+        return Swap(file, self.one, self.other)
 
     def as_numbers(self):
         return [SWAP, self.file, self.one, self.other]
@@ -80,6 +115,12 @@ class Added:
         after[self.file] = []
         return after
 
+    def names(self):
+        return [self.file]
+
+    def turned(self):
+        return Removed(self.file)
+
     def as_numbers(self):
         return [ADDED, self.file]
 
@@ -95,6 +136,12 @@ class Removed:
         after = tree.copy()
         after.pop(self.file)
         return after
+
+    def names(self):
+        return [self.file]
+
+    def turned(self):
+        return Added(self.file)
 
     def as_numbers(self):
         return [REMOVED, self.file]
@@ -113,8 +160,18 @@ class Moved:
         after[self.target] = after.pop(self.file)
         return after
 
+    def names(self):
+        return [self.file, self.target]
+
+    def turned(self):
+        return Moved(self.target, self.file)
+
     def as_numbers(self):
         return [MOVED, self.file, self.target]
+
+
+def have_common(names, others):
+    return any([name in others for name in names])
 
 
 def read_hunk(reader):

@@ -14,6 +14,10 @@ MOST_FILES = 6
 MOST_TOKENS = 12
 
 
+def is_name(number):
+    return 0 <= number <= LAST_NAME
+
+
 def read_name(reader):
     return reader.take_between(0, LAST_NAME)
 

@@ -19,6 +19,7 @@ def hunk(file, place, old, new):
 
 SHOWN = [2]
 OUTCOME = [3]
+SHORT = [12]
 
 
 def blame(file):
@@ -31,6 +32,31 @@ def who(file, place):
 
 def broke(kind, file, number):
     return [6, kind, file, number]
+
+
+def culprits(kind, file, number):
+    return [7, kind, file, number]
+
+
+def part(*names):
+    return [8, len(names), *names]
+
+
+def without(author):
+    return [9, author]
+
+
+def split(place, many_old, many_new):
+    return [10, place, many_old, many_new]
+
+
+def join(place):
+    return [11, place]
+
+
+def row(*steps):
+    """A row as numbers."""
+    return [len(steps), *[number for told in steps for number in told]]
 
 
 def asked(*calls):
